@@ -1,0 +1,1 @@
+"""Roundmill: numbers kept in bits, each answer rounded once."""

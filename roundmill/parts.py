@@ -1,0 +1,60 @@
+"""The bits of a number: their parts, their kind and their worth."""
+
+from roundmill.errors import NoBits, NoParts, NotFinite
+from roundmill.sizes import last_field, low, sign_bit, width
+
+
+def parted(size, bits):
+    if bits < 0 or bits >= 1 << width(size):
+        raise NoBits("no number of this size has these bits")
+    code = bits % sign_bit(size)
+    step = 1 << size[1]
+    return (bits // sign_bit(size), code // step, code % step)
+
+
+def joined(size, sign, field, figures):
+    if sign < 0 or sign > 1:
+        raise NoParts("a sign is 0 or 1")
+    if field < 0 or field > last_field(size):
+        raise NoParts("the field is out of this size's range")
+    if figures < 0 or figures >= 1 << size[1]:
+        raise NoParts("the figures are out of this size's range")
+    return sign * sign_bit(size) + (field << size[1]) + figures
+
+
+def kind(size, bits):
+    parts = parted(size, bits)
+    field = parts[1]
+    figures = parts[2]
+    if field == 0:
+        return "nought" if figures == 0 else "faint"
+    if field == last_field(size):
+        return "endless" if figures == 0 else "none"
+    return "plain"
+
+
+def worth(size, bits):
+    parts = parted(size, bits)
+    sign = parts[0]
+    field = parts[1]
+    figures = parts[2]
+    if field == last_field(size):
+        raise NotFinite("an endless number or a none has no worth")
+    if field == 0:
+        return (sign, figures, low(size))
+    return (sign, (1 << size[1]) + figures, low(size) + field - 1)
+
+
+def fraction(size, bits):
+    value = worth(size, bits)
+    sign = value[0]
+    whole = value[1]
+    power = value[2]
+    if power >= 0:
+        return (sign, whole << power, 1)
+    return (sign, whole, 1 << -power)
+
+
+def negated(size, bits):
+    parts = parted(size, bits)
+    return joined(size, 1 - parts[0], parts[1], parts[2])
