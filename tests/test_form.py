@@ -35,6 +35,15 @@ NODES = (
     ast.operator, ast.unaryop, ast.boolop, ast.cmpop, ast.expr_context,
 )
 PLAIN = (int, str, bool, type(None))
+METHODS = (
+    "append clear copy count endswith extend find get index insert isalnum isalpha isdigit islower "
+    "isspace isupper items join keys ljust lower lstrip partition pop remove replace reverse rfind "
+    "rjust rpartition rsplit rstrip setdefault split splitlines startswith strip update upper "
+    "values zfill bit_length"
+).split()
+CHANGES = "append clear extend insert pop remove reverse setdefault update".split()
+WALKED = ("zip", "enumerate", "reversed", "range")
+WALKERS = ("list", "tuple", "dict", "sorted", "sum", "any", "all", "enumerate", "zip", "min", "max")
 
 
 def bound_names(tree):
@@ -50,6 +59,17 @@ def bound_names(tree):
             yield node.attr, node.lineno
         elif isinstance(node, ast.ExceptHandler) and node.name:
             yield node.name, node.lineno
+
+
+def called_name(node):
+    """The name that a call calls, be it a function's or a method's."""
+    if isinstance(node, ast.Call):
+        return getattr(node.func, "id", getattr(node.func, "attr", None))
+    return None
+
+
+def methods_of(node):
+    return [row for row in node.body if isinstance(row, ast.FunctionDef)]
 
 
 def drawn_from(tree):
@@ -191,6 +211,90 @@ class Form(unittest.TestCase):
                 self.assertIsInstance(node, kinds, f"{path.name}:{node.lineno}")
                 names.append(getattr(node, "name", None) or ast.dump(node))
             self.assertEqual(len(names), len(set(names)), path.name)
+
+    def test_values_of_the_top_are_plain(self):
+        for path, tree in self.trees.items():
+            defined = []
+            for node in tree.body:
+                if isinstance(node, ast.FunctionDef):
+                    defined.append(node.name)
+                if isinstance(node, ast.Assign):
+                    self.plain(node.value, defined, f"{path.name}:{node.lineno}")
+
+    def plain(self, value, defined, place, within=False):
+        if isinstance(value, (ast.List, ast.Dict)):
+            self.assertFalse(within, place)
+        else:
+            self.assertIsInstance(value, (ast.Tuple, ast.Constant, ast.Name), place)
+        if isinstance(value, ast.Name):
+            self.assertIn(value.id, defined, place)
+        parts = getattr(value, "elts", []) + getattr(value, "keys", []) + getattr(value, "values", [])
+        for part in parts:
+            self.plain(part, defined, place, True)
+
+    def test_lists_and_dicts_of_the_top_are_only_read(self):
+        for path, tree in self.trees.items():
+            kept = [node.targets[0].id for node in tree.body
+                    if isinstance(node, ast.Assign) and isinstance(node.value, (ast.List, ast.Dict))]
+            for node in ast.walk(tree):
+                place = f"{path.name}:{getattr(node, 'lineno', 0)}"
+                if isinstance(node, ast.Subscript) and isinstance(node.ctx, ast.Store):
+                    self.assertNotIn(getattr(node.value, "id", None), kept, place)
+                if isinstance(node, ast.Attribute) and node.attr in CHANGES:
+                    self.assertNotIn(getattr(node.value, "id", None), kept, place)
+                if isinstance(node, ast.Return):
+                    self.assertNotIn(getattr(node.value, "id", None), kept, place)
+
+    def test_a_name_is_a_method_or_a_value_in_all_classes(self):
+        methods, values = set(), set()
+        for place, node in self.walk():
+            if isinstance(node, ast.ClassDef):
+                names = [row.name for row in methods_of(node)]
+                self.assertEqual(len(names), len(set(names)), place)
+                methods.update(names)
+                self.assertLessEqual(len(node.bases), 1, place)
+                for row in node.body:
+                    self.assertIsInstance(row, (ast.FunctionDef, ast.Pass), place)
+            if isinstance(node, ast.Attribute) and isinstance(node.ctx, ast.Store):
+                values.add(node.attr)
+        self.assertEqual(methods & values, set())
+
+    def test_methods_that_are_called(self):
+        own = [row.name for place, node in self.walk() if isinstance(node, ast.ClassDef)
+               for row in methods_of(node)]
+        for place, node in self.walk():
+            if isinstance(node, ast.Call) and isinstance(node.func, ast.Attribute):
+                self.assertIn(node.func.attr, METHODS + own, place)
+
+    def test_handlers_name_the_program_s_own_errors(self):
+        own = [node.name for place, node in self.walk() if isinstance(node, ast.ClassDef)]
+        for place, node in self.walk():
+            if isinstance(node, ast.ExceptHandler):
+                self.assertIsInstance(node.type, ast.Name, place)
+                self.assertIn(node.type.id, own + ["KeyError", "ZeroDivisionError"], place)
+            if isinstance(node, ast.Raise):
+                self.assertIsInstance(node.exc, ast.Call, place)
+
+    def test_walked_at_once(self):
+        for path, tree in self.trees.items():
+            walked = set()
+            for node in ast.walk(tree):
+                if isinstance(node, (ast.For, ast.comprehension)):
+                    walked.add(node.iter)
+                if called_name(node) in WALKERS + ("join",) and node.args:
+                    walked.add(node.args[0])
+            for node in ast.walk(tree):
+                if called_name(node) in WALKED + ("items", "keys", "values"):
+                    self.assertIn(node, walked, f"{path.name}:{node.lineno}")
+
+    def test_no_docstrings_and_no_annotations_within(self):
+        for place, node in self.walk():
+            if isinstance(node, ast.Expr) and isinstance(node.value, ast.Constant):
+                self.assertEqual(node.lineno, 1, place)
+            if isinstance(node, ast.FunctionDef):
+                self.assertIsNone(node.returns, place)
+            if isinstance(node, ast.arg):
+                self.assertIsNone(node.annotation, place)
 
 
 if __name__ == "__main__":
