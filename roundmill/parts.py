@@ -45,14 +45,22 @@ def worth(size, bits):
     return (sign, (1 << size[1]) + figures, low(size) + field - 1)
 
 
-def fraction(size, bits):
-    value = worth(size, bits)
-    sign = value[0]
+# The value of a worth, or of a sum of worths, as fraction tells it.
+def worth_fraction(value):
     whole = value[1]
     power = value[2]
     if power >= 0:
-        return (sign, whole << power, 1)
-    return (sign, whole, 1 << -power)
+        return (value[0], whole << power, 1)
+    return (value[0], whole, 1 << -power)
+
+
+def fraction(size, bits):
+    return worth_fraction(worth(size, bits))
+
+
+# The bits of a code with a sign; unlike joined, it asks for no parts.
+def signed(size, sign, code):
+    return sign * sign_bit(size) + code
 
 
 def negated(size, bits):
