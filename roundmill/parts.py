@@ -12,6 +12,12 @@ def parted(size, bits):
     return (bits // sign_bit(size), code // step, code % step)
 
 
+# For functions that refuse what is no bits ahead of all that hangs on the single numbers.
+def check_bits(size, numbers):
+    for bits in numbers:
+        parted(size, bits)
+
+
 def joined(size, sign, field, figures):
     if sign < 0 or sign > 1:
         raise NoParts("a sign is 0 or 1")
