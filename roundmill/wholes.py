@@ -16,6 +16,12 @@ def whole_of(way, sign, top, bottom):
     return whole + 1 if chosen.grows(sign, whole & 1 == 1, rest) else whole
 
 
+# The whole number taken for a value (sign, top, bottom), and the flag inexact where it is another one.
+def whole_and_flags(way, value):
+    whole = whole_of(way, value[0], value[1], value[2])
+    return (whole, INEXACT if whole * value[2] != value[1] else 0)
+
+
 def wholed(size, way, bits):
     way_of(way)
     found = kind(size, bits)
@@ -24,8 +30,7 @@ def wholed(size, way, bits):
     if found in ("nought", "endless"):
         return (bits, 0)
     value = fraction(size, bits)
-    whole = whole_of(way, value[0], value[1], value[2])
-    pair = rounded(size, way, value[0], whole, 1)
-    # Every whole number next to a number of the size is one itself, or T: nothing else is lost here.
-    lost = INEXACT if whole * value[2] != value[1] else 0
-    return (pair[0], pair[1] | lost)
+    taken = whole_and_flags(way, value)
+    pair = rounded(size, way, value[0], taken[0], 1)
+    # The whole number is one of the size's own or T, so that rounding it raises great beside inexact.
+    return (pair[0], pair[1] | taken[1])
