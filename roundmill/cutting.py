@@ -24,13 +24,18 @@ def height(top, bottom):
     return guess if parts[0] < parts[1] else guess + 1
 
 
-# The left-over is doubled, so that the half need not be a whole number.
-def rest_of(over, step):
+# The rest, by what is left over and by a number that stands to the middle as the cut one does.
+def rest_by_middle(over, number, middle):
     if over == 0:
         return 0
-    if 2 * over < step:
+    if number < middle:
         return 1
-    return 2 if 2 * over == step else 3
+    return 2 if number == middle else 3
+
+
+# The left-over is doubled, so that the half need not be a whole number.
+def rest_of(over, step):
+    return rest_by_middle(over, 2 * over, step)
 
 
 def cut(size, top, bottom):
@@ -45,8 +50,6 @@ def cut(size, top, bottom):
 def whole_root(number):
     if number < 0:
         raise NoFraction("a number below 0 has no root")
-    if number == 0:
-        return 0
     # Newton's steps come down to the root from a guess that is not below it.
     root = 1 << ((number.bit_length() + 1) // 2)
     while root * root > number:
@@ -55,13 +58,9 @@ def whole_root(number):
 
 
 def root_rest(top, bottom, root):
-    if root * root * bottom == top:
-        return 0
-    # The middle, root + 1 / 2, is held against the exact root by their squares.
+    # The middle, root + 1 / 2, is held against the exact root by their squares, both times 4.
     middle = (2 * root + 1) * (2 * root + 1) * bottom
-    if 4 * top < middle:
-        return 1
-    return 2 if 4 * top == middle else 3
+    return rest_by_middle(top - root * root * bottom, 4 * top, middle)
 
 
 def root_cut(size, top, bottom):

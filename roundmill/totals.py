@@ -22,7 +22,6 @@ def nought_sign(way, signs):
 
 
 def settled_total(size, way, terms):
-    way_of(way)
     value = worth_fraction(total(terms))
     if value[1] == 0:
         sign = nought_sign(way, [term[0] for term in terms])

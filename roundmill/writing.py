@@ -15,12 +15,11 @@ def reads_back(size, bits, figures, place):
 
 # The least k with top / bottom less than 10 ** k, for a top above 0.
 def ten_height(top, bottom):
-    # The power of two tells it but for a step or two; 0.30103 is the logarithm of 2.
+    # The power of two, times the logarithm of 2, is never more than one beyond the logarithm asked
+    # for: so the guess is never too great.
     guess = height(top, bottom) * 30103 // 100000
     while not below_ten_to(top, bottom, guess):
         guess = guess + 1
-    while below_ten_to(top, bottom, guess - 1):
-        guess = guess - 1
     return guess
 
 
@@ -56,7 +55,7 @@ def nearest_back(size, bits, place, parts):
 
 
 def bare_spelling(sign, figures, place):
-    while figures > 0 and figures % 10 == 0:
+    while figures % 10 == 0:
         figures = figures // 10
         place = place + 1
     return (sign, figures, place)

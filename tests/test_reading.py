@@ -1,4 +1,6 @@
+import itertools
 import random
+import re
 import struct
 import unittest
 from fractions import Fraction
@@ -66,8 +68,6 @@ class Spelled(unittest.TestCase):
                     spelled(text)
 
     def test_every_short_text_by_the_words_of_the_document(self):
-        import itertools
-        import re
         form = re.compile(r" *[+-]?[0-9]+(\.[0-9]+)?(e[+-]?[0-9]{1,4})? *")
         for length in range(1, 7):
             for signs in itertools.product("-1.e ", repeat=length):
